@@ -76,6 +76,13 @@ def mask_of(row):
     return mask
 
 
+def packed(wide, rows):
+    """The picture of rows that are known to be cells, each as many as it is wide; nothing is refused."""
+    paints = tuple([paint_of(row) for row in rows])
+    masks = tuple([mask_of(row) for row in rows])
+    return (wide, len(rows), paints, masks)
+
+
 def pictured(rows):
     """The picture of a list of lists of cells; whatever else is refused with NoPicture."""
     if not isinstance(rows, list) or not is_side(len(rows)):
@@ -83,9 +90,7 @@ def pictured(rows):
     for number, row in enumerate(rows):
         if not is_cells_row(row, rows[0]):
             raise NoPicture(number)
-    paints = tuple([paint_of(row) for row in rows])
-    masks = tuple([mask_of(row) for row in rows])
-    return (len(rows[0]), len(rows), paints, masks)
+    return packed(len(rows[0]), rows)
 
 
 def cell_of(pic, x, y):

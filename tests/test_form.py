@@ -42,6 +42,10 @@ TOP = (ast.ImportFrom, ast.FunctionDef, ast.ClassDef, ast.Assign, ast.Expr)
 
 WALKED_AT_ONCE = {"zip", "enumerate", "reversed", "range"}
 
+KEYWORDS = {
+    "sorted": ("key", "reverse"), "min": ("key", "default"), "max": ("key", "default"), "sum": ("start",),
+    "enumerate": ("start",), "zip": ("strict",)}
+
 
 def files():
     return [path for path in sorted(PACKAGE.rglob("*")) if "__pycache__" not in path.parts and path.is_file()]
@@ -187,6 +191,33 @@ class FormTest(unittest.TestCase):
         for where, node in self.nodes(ast.Attribute):
             self.assertNotIn(node.attr, OUT_AS_NAMES | own_values, where)
             self.assertTrue(node.attr in OWN_DUNDERS or re.match(r"^[A-Za-z]", node.attr), where)
+
+    def test_no_local_is_called_like_a_class_or_an_import_of_its_file(self):
+        for path, tree in self.trees.items():
+            taken = {name.asname or name.name for node in tree.body if isinstance(node, ast.ImportFrom)
+                     for name in node.names}
+            taken |= {node.name for node in tree.body if isinstance(node, ast.ClassDef)}
+            for node in ast.walk(tree):
+                where = f"{path.name}:{getattr(node, 'lineno', 0)}"
+                if isinstance(node, ast.arg):
+                    self.assertNotIn(node.arg, taken, where)
+                if isinstance(node, ast.Name) and isinstance(node.ctx, ast.Store):
+                    self.assertNotIn(node.id, taken, where)
+                if isinstance(node, ast.FunctionDef):
+                    self.assertNotIn(node.name, taken, where)
+                    self.assertFalse(hasattr(builtins, node.name) and node.col_offset == 0, where)
+
+    def test_keywords_at_pythons_own(self):
+        for where, node in self.nodes(ast.Call):
+            if isinstance(node.func, ast.Name) and hasattr(builtins, node.func.id):
+                told = [keyword.arg for keyword in node.keywords]
+                self.assertLessEqual(set(told), set(KEYWORDS.get(node.func.id, ())), where)
+
+    def test_no_annotations(self):
+        for where, node in self.nodes(ast.AnnAssign, ast.arg, ast.FunctionDef):
+            self.assertNotIsInstance(node, ast.AnnAssign, where)
+            self.assertIsNone(getattr(node, "annotation", None), where)
+            self.assertIsNone(getattr(node, "returns", None), where)
 
     def test_walked_at_once(self):
         for where, node in self.nodes(ast.Assign, ast.Return):

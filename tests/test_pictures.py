@@ -6,21 +6,9 @@ import unittest
 from glowboard.errors import GlowError, NoPicture
 from glowboard.pictures import cell_of, filled, is_picture, many_painted, pictured, rows_of
 
-from helper import MOST, bits_of, deep, no_numbers, patterned
+from helper import FAR, MOST, SIDES, bits_of, deep, no_numbers, patterned, some_rows
 
-SIDES = ((1, 1), (2, 1), (1, 2), (3, 2), (5, 7), (16, 4), (17, 3), (63, 2), (64, 1), (1, 64), (64, 64))
-FAR = 1000000000
 CELLS = (None,) + tuple(range(16))
-
-
-def some_rows():
-    """Rows of many sides: with holes and colours, with holes alone, without any."""
-    for wide, high in SIDES:
-        yield patterned(wide, high)
-        yield patterned(wide, high, 5)
-        yield patterned(wide, high, 17)
-        yield [[None] * wide for y in range(high)]
-        yield [[(x + y) % 16 for x in range(wide)] for y in range(high)]
 
 
 class PicturedTest(unittest.TestCase):
