@@ -69,6 +69,72 @@ def cell_at(rows, x, y):
     return None
 
 
+def rows_cut(rows, x, y, wide, high):
+    """The rows of a cut, cell by cell as the document tells it."""
+    return [[cell_at(rows, x + i, y + j) for i in range(wide)] for j in range(high)]
+
+
+def is_over(ranks, one, other):
+    """Whether of layers of these ranks one is over the other."""
+    return ranks[one] > ranks[other] or (ranks[one] == ranks[other] and one > other)
+
+
+def uppermost(layers, x, y):
+    """The uppermost that has no hole at a place, by comparing each two; the layers are of rows, not pictures."""
+    ranks = [layer[0] for layer in layers]
+    best = None
+    for number, layer in enumerate(layers):
+        if cell_at(layer[1], x - layer[2], y - layer[3]) is not None:
+            if best is None or is_over(ranks, number, best):
+                best = number
+    return best
+
+
+def pile_of(layers):
+    """The pile of layers that are of rows."""
+    return [(rank, bits_of(rows), x, y) for rank, rows, x, y in layers]
+
+
+def some_layers(seed):
+    """A few small layers of rows at and across (0, 0), one of them of holes alone, with few ranks."""
+    layers = []
+    for number in range(7):
+        rows = patterned(1 + (number + seed) % 5, 1 + (number * 3 + seed) % 4, seed + number)
+        rank = (number * 5 + seed) % 3 - 1
+        layers.append((rank, rows, (number * 3 + seed) % 7 - 3, (number * 5 + seed) % 6 - 3))
+    layers.insert(seed % 7, (9, holes(6, 6), -2, -2))
+    return layers
+
+
+def sign_rows(signs, high=3):
+    """A dict of rows for some signs, of unlike widths and all of one height."""
+    return {sign: patterned(1 + number * 3 % 5, high, 2 * number + high) for number, sign in enumerate(signs)}
+
+
+def pairs_of(rows_by_signs):
+    """The pairs that a font of these signs is made of."""
+    return [(sign, bits_of(rows)) for sign, rows in rows_by_signs.items()]
+
+
+def text_rows(rows_by_signs, gap, text):
+    """The rows of a row of signs, put together sign by sign; each is [] for the text without signs."""
+    told = [[] for rows in next(iter(rows_by_signs.values()))]
+    for at, sign in enumerate(text):
+        for row, added in zip(told, rows_by_signs[sign]):
+            row.extend([None] * (gap if at > 0 else 0))
+            row.extend(added)
+    return told
+
+
+def page_rows(rows_by_signs, gap, lines, lead):
+    """The rows of a page from its top on, each as long as its line is."""
+    told = []
+    for at, line in enumerate(lines):
+        told.extend([[]] * (lead if at > 0 else 0))
+        told.extend(text_rows(rows_by_signs, gap, line))
+    return told
+
+
 def most_held(work):
     """The most memory, in bytes, that was held at once for a piece of work."""
     tracemalloc.start()

@@ -5,19 +5,15 @@ import unittest
 from glowboard.cuts import box_of, cut, laid
 from glowboard.pictures import filled, is_picture
 
-from helper import FAR, SIDES, bits_of, cell_at, holes, most_held, patterned, some_rows
+from helper import FAR, SIDES, bits_of, cell_at, holes, most_held, patterned, rows_cut, some_rows
 
 FARS = (-FAR, 1 - FAR, -(2 ** 29), -129, 129, 2 ** 29, FAR - 1, FAR)
 UNITS = ((1, 1), (3, 2), (2, 5), (7, 4), (64, 1), (1, 64))
 LITTLE = 200000
 
 
-def rows_cut(rows, x, y, wide, high):
-    """Cell by cell as the document tells it."""
-    return [[cell_at(rows, x + i, y + j) for i in range(wide)] for j in range(high)]
-
-
 def rows_laid(under, over, x, y):
+    """Cell by cell as the document tells it."""
     told = []
     for j, row in enumerate(under):
         uppers = [cell_at(over, i - x, j - y) for i in range(len(row))]

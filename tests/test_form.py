@@ -42,6 +42,8 @@ TOP = (ast.ImportFrom, ast.FunctionDef, ast.ClassDef, ast.Assign, ast.Expr)
 
 WALKED_AT_ONCE = {"zip", "enumerate", "reversed", "range"}
 
+VALUES_LIKE_METHODS = set("count index title find get join lower upper split strip copy add".split())
+
 KEYWORDS = {
     "sorted": ("key", "reverse"), "min": ("key", "default"), "max": ("key", "default"), "sum": ("start",),
     "enumerate": ("start",), "zip": ("strict",)}
@@ -206,6 +208,24 @@ class FormTest(unittest.TestCase):
                 if isinstance(node, ast.FunctionDef):
                     self.assertNotIn(node.name, taken, where)
                     self.assertFalse(hasattr(builtins, node.name) and node.col_offset == 0, where)
+
+    def test_methods_and_values_of_objects(self):
+        methods, values = set(), {}
+        for where, node in self.nodes(ast.ClassDef):
+            own = [inner.name for inner in node.body if isinstance(inner, ast.FunctionDef)]
+            self.assertEqual(len(set(own)), len(own), where)
+            methods.update(own)
+        for where, node in self.nodes(ast.Attribute):
+            if isinstance(node.ctx, ast.Store):
+                self.assertIsInstance(node.value, ast.Name, where)
+                values[node.attr] = where
+        self.assertEqual(set(), methods & set(values))
+        self.assertEqual(set(), (methods & python_values()) - ALLOWED_METHODS)
+        self.assertEqual(set(), (set(values) & python_values()) - VALUES_LIKE_METHODS)
+        for where, node in self.nodes(ast.FunctionDef):
+            if node.name == "__init__":
+                returns = [inner for inner in ast.walk(node) if isinstance(inner, ast.Return)]
+                self.assertEqual([], returns, where)
 
     def test_keywords_at_pythons_own(self):
         for where, node in self.nodes(ast.Call):

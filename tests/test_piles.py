@@ -7,7 +7,7 @@ from glowboard.cuts import cut
 from glowboard.piles import order_of, top_at
 from glowboard.pictures import filled
 
-from helper import FAR, bits_of, cell_at, holes, most_held, patterned
+from helper import FAR, bits_of, is_over, most_held, patterned, pile_of, some_layers, uppermost
 
 DOT = filled(1, 1, 0)
 
@@ -15,10 +15,6 @@ DOT = filled(1, 1, 0)
 def ranked(ranks):
     """A pile of layers of these ranks, all alike else."""
     return [(rank, DOT, 0, 0) for rank in ranks]
-
-
-def is_over(ranks, one, other):
-    return ranks[one] > ranks[other] or (ranks[one] == ranks[other] and one > other)
 
 
 class OrderOfTest(unittest.TestCase):
@@ -73,16 +69,6 @@ class OrderOfTest(unittest.TestCase):
 
 class TopAtTest(unittest.TestCase):
 
-    def top(self, layers, x, y):
-        """The uppermost that has no hole there, by comparing each two; the layers are of rows, not pictures."""
-        ranks = [layer[0] for layer in layers]
-        best = None
-        for number, layer in enumerate(layers):
-            if cell_at(layer[1], x - layer[2], y - layer[3]) is not None:
-                if best is None or is_over(ranks, number, best):
-                    best = number
-        return best
-
     def test_no_layer(self):
         for x, y in ((0, 0), (-1, 5), (FAR, -FAR)):
             self.assertIsNone(top_at([], x, y))
@@ -115,16 +101,11 @@ class TopAtTest(unittest.TestCase):
 
     def test_many_places(self):
         for seed in range(12):
-            layers = []
-            for number in range(7):
-                rows = patterned(1 + (number + seed) % 5, 1 + (number * 3 + seed) % 4, seed + number)
-                rank = (number * 5 + seed) % 3 - 1
-                layers.append((rank, rows, (number * 3 + seed) % 7 - 3, (number * 5 + seed) % 6 - 3))
-            layers.insert(seed % 7, (9, holes(6, 6), -2, -2))
-            pile = [(rank, bits_of(rows), x, y) for rank, rows, x, y in layers]
+            layers = some_layers(seed)
+            pile = pile_of(layers)
             for y in range(-5, 9):
                 for x in range(-5, 10):
-                    self.assertEqual(self.top(layers, x, y), top_at(pile, x, y), (seed, x, y))
+                    self.assertEqual(uppermost(layers, x, y), top_at(pile, x, y), (seed, x, y))
 
     def test_great_layers(self):
         pile = [(0, filled(64, 64, 0), 0, 0), (0, filled(64, 1, 4), 1, 63), (0, filled(1, 64, 4), 63, 1)]
