@@ -1,6 +1,6 @@
 """Cuts of a picture, one picture laid on another, and the box of what is painted."""
 
-from glowboard.pictures import filled, paint_room
+from glowboard.pictures import filled, lowest_bit, paint_room
 
 
 def bits_of_row(rows, y):
@@ -52,5 +52,5 @@ def box_of(pic):
     if columns == 0:
         return None
     rows = [y for y in range(pic[1]) if pic[3][y] != 0]
-    left = (columns & -columns).bit_length() - 1
+    left = lowest_bit(columns)
     return (left, rows[0], columns.bit_length() - left, rows[-1] - rows[0] + 1)

@@ -124,6 +124,11 @@ def many_bits(mask):
     return many
 
 
+def lowest_bit(mask):
+    """The number of the lowest bit that is 1, of a mask that is not 0."""
+    return (mask & -mask).bit_length() - 1
+
+
 def many_painted(pic):
     """How many cells of a picture are no holes."""
     return sum([many_bits(mask) for mask in pic[3]])
